@@ -1,0 +1,1 @@
+"""Layfaces: faces laid down one after another, each on whole sides."""

@@ -1,0 +1,134 @@
+"""What the tests share: stacks, odd things, and the document's words told the long way."""
+
+from itertools import combinations
+
+
+def full(n, k):
+    return (n, k, tuple(combinations(range(n), k)))
+
+
+def small_stacks(most):
+    """Every stack of at most so many points."""
+    found = []
+    for n in range(1, most + 1):
+        for k in range(min(n, 4) + 1):
+            faces = list(combinations(range(n), k))
+            for many in range(1, len(faces) + 1):
+                found.extend((n, k, some) for some in combinations(faces, many))
+    return found
+
+
+NOUGHT = (1, 0, ((),))
+ALONE = (8, 4, ((1, 3, 5, 7),))
+POINTS = (5, 1, ((0,), (2,), (4,)))
+TRIANGLE = (3, 2, ((0, 1), (0, 2), (1, 2)))
+PATH = (4, 2, ((0, 1), (1, 3)))
+APART = (4, 2, ((0, 1), (2, 3)))
+TAILED = (6, 2, ((0, 1), (0, 2), (1, 2), (2, 4)))
+HINGED = (5, 3, ((0, 1, 2), (0, 3, 4)))
+STRIP = (6, 3, ((0, 1, 2), (1, 2, 3), (2, 3, 4), (3, 4, 5)))
+APART_FOUR = (8, 4, ((0, 1, 2, 3), (4, 5, 6, 7)))
+SEVENTY = full(8, 4)
+
+EDGES = [
+    NOUGHT, (8, 0, ((),)), (1, 1, ((0,),)), full(8, 1), full(4, 4), full(5, 4), ALONE, POINTS, TRIANGLE,
+    PATH, APART, TAILED, HINGED, STRIP, APART_FOUR, SEVENTY, full(8, 2), full(8, 3), (8, 2, ((6, 7),)),
+]
+
+
+def nested(wrap, deep):
+    thing = 0
+    for _ in range(deep - 1):
+        thing = wrap(thing)
+    return thing
+
+
+# Things of every kind that the document calls "anything", none of them a number of 0 to 8.
+ODD = [
+    True, False, None, -1, 9, 71, 10 ** 30, -(10 ** 30), "", "0", "01", "3 2: 01 02 12", "a\nb ~" * 50,
+    [], [0], [0, 1], [[0, 1]], {}, {0: 1}, {"n": (0, 1)}, {(0, 1): []},
+    (True,), (None,), ("0",), ([],), ({},), ((),), (0, None), (None, 0), (0, (1,)), ((0,), 1),
+    (0, True), (False, 1), (1, 0), (0, 0), (-1,), (-1, 0), (0, 10 ** 30), [(0, 1)], ([0], [1]),
+    (3, 2), [3, 2, [[0, 1]]], (3, 2, ((0, 1),), 0),
+    nested(lambda thing: (thing,), 20), nested(lambda thing: [thing], 20),
+    nested(lambda thing: {0: thing}, 20), nested(lambda thing: (thing, [thing]), 12),
+]
+
+
+def swapped(thing, odd):
+    """The thing with the odd one at each place in turn, its own place first."""
+    yield odd
+    if isinstance(thing, tuple):
+        for at, inner in enumerate(thing):
+            for other in swapped(inner, odd):
+                yield thing[:at] + (other,) + thing[at + 1:]
+
+
+def misshapen(thing):
+    """The thing with one of its tuples as a list, turned round, or with one item twice, less or more."""
+    if isinstance(thing, tuple):
+        yield list(thing)
+        yield thing[::-1]
+        yield thing[1:]
+        yield thing[:1] + thing
+        yield thing + thing[-1:]
+        yield thing + (None,)
+        for at, inner in enumerate(thing):
+            for other in misshapen(inner):
+                yield thing[:at] + (other,) + thing[at + 1:]
+    if type(thing) is int:
+        yield thing - 1
+        yield thing + 1
+        yield thing == 1
+
+
+def one_of(thing, things):
+    """Whether it is one of the things, kinds and all: by repr, True is not 1, nor [] the same as ()."""
+    return repr(thing) in {repr(each) for each in things}
+
+
+def told_stack(thing):
+    """Whether it is a stack, by the list of all faces that may stand in it."""
+    if type(thing) is not tuple or len(thing) != 3:
+        return False
+    n, k, faces = thing
+    if not one_of(n, range(1, 9)) or not one_of(k, range(5)) or k > n or type(faces) is not tuple:
+        return False
+    numbers = {repr(face): at for at, face in enumerate(combinations(range(n), k))}
+    places = [numbers.get(repr(face)) for face in faces]
+    return places != [] and None not in places and places == sorted(set(places))
+
+
+def told_parts(stack):
+    return sorted({part for face in stack[2] for many in range(stack[1] + 1) for part in combinations(face, many)})
+
+
+def told_lots(stack):
+    numbers = range(len(stack[2]))
+    return [lot for many in range(len(stack[2]) + 1) for lot in combinations(numbers, many)]
+
+
+def told_may_lay(stack, lot, number):
+    """The words of 2.1, one for one."""
+    face = set(stack[2][number])
+    laid = [set(stack[2][each]) for each in lot]
+    if number in lot:
+        return False
+    return all(
+        any(len(face & second) == stack[1] - 1 and face & first <= face & second for second in laid)
+        for first in laid
+    )
+
+
+def told_brought(stack, lot, number):
+    """The words of 2.2, one for one."""
+    face = stack[2][number]
+    laid = [set(stack[2][each]) for each in lot]
+    return tuple(point for point in face if any(set(face) - {point} <= other for other in laid))
+
+
+def told_first_wrong(stack, row):
+    for place, number in enumerate(row):
+        if not told_may_lay(stack, row[:place], number):
+            return place
+    return None

@@ -1,0 +1,187 @@
+"""What holds for everything (0.2 to 0.5): the very class, the left one first, nothing changed, lists of one's own."""
+
+import copy
+import inspect
+import unittest
+
+from layfaces import laying, stacks
+from layfaces.errors import LayError, NoLot, NoNumber, NoOrder, NoPart, NoRow, NoStack
+from samples import APART, EDGES, ODD, PATH, SEVENTY, STRIP, TAILED, nested
+
+GOOD_FIVE = (6, 3, ((0, 1, 2), (0, 1, 3), (0, 2, 3), (1, 2, 3), (1, 2, 4)))
+
+NO_STACKS = [
+    None, True, 0, "3 2: 01 02 12", [], {}, (), (3, 2), [6, 3, ((0, 1, 2),)], (9, 3, ((0, 1, 2),)),
+    (0, 0, ((),)), (8, 5, ((0, 1, 2, 3, 4),)), (8, -1, ((),)), (2, 3, ((0, 1, 2),)), (6, 3, ()),
+    (6, 3, [(0, 1, 2)]), (6, 3, ([0, 1, 2],)), (6, 3, ((0, 2, 1),)), (6, 3, ((0, 1, 6),)),
+    (6, True, ((0,),)), (True, 0, ((),)), (6, 3, ((False, True, 2),)), (6, 3, ((0, 1, 2), (0, 1, 2))),
+    (6, 3, ((0, 1, 3), (0, 1, 2))), (6, 3, None), (6, 3, {(0, 1, 2): 1}), (6, 3, ("012",)),
+]
+NO_NUMBERS = [-1, 10 ** 30, True, False, None, "", "1", (), (1,), [], [1], {}, {1: 1}]
+NO_TUPLES = [0, -1, True, None, "", "0", [], [0], {}, {0: 0}, (True,), (False,), (None,), ("0",), ((),), ([0],), (-1,)]
+NO_TUPLES += [(0, 0), (10 ** 30,), nested(lambda thing: (thing,), 20), nested(lambda thing: {0: [thing]}, 10)]
+
+# Of each function: what it is rightly asked, and of each place what is due of what is none.
+ASKED = [
+    (stacks.is_part, (GOOD_FIVE, (0, 3)), [(NoStack, NO_STACKS)]),
+    (stacks.parts_of, (GOOD_FIVE, 2), [(NoStack, NO_STACKS), (NoNumber, NO_NUMBERS + [4])]),
+    (stacks.counts, (GOOD_FIVE,), [(NoStack, NO_STACKS)]),
+    (stacks.sides, (GOOD_FIVE, 3), [(NoStack, NO_STACKS), (NoNumber, NO_NUMBERS + [5])]),
+    (stacks.link, (GOOD_FIVE, (1, 2)), [(NoStack, NO_STACKS), (NoPart, NO_TUPLES + [(1, 0), (0, 4), (5,), (6,)])]),
+    (stacks.without, (GOOD_FIVE, 4), [(NoStack, NO_STACKS), (NoNumber, NO_NUMBERS + [6])]),
+    (laying.is_order, (GOOD_FIVE, (0, 1, 2, 3, 4)), [(NoStack, NO_STACKS)]),
+    (laying.first_wrong, (GOOD_FIVE, (4, 0, 1, 2, 3)), [
+        (NoStack, NO_STACKS), (NoRow, NO_TUPLES + [(), (0, 1, 2, 3), (0, 1, 2, 3, 3), (0, 1, 2, 3, 5), (0, 1, 2, 3, 4, 5)]),
+    ]),
+    (laying.brings, (GOOD_FIVE, (1, 0, 2, 3, 4)), [
+        (NoStack, NO_STACKS), (NoOrder, NO_TUPLES + [(), (1, 4, 0, 2, 3), (0, 1, 2, 3), (False, True, 2, 3, 4)]),
+    ]),
+]
+for function in (laying.may_lay, laying.brought, laying.new_parts):
+    taken = [] if function == laying.may_lay else [0, 2]
+    ASKED.append((function, (GOOD_FIVE, (0, 2), 3), [
+        (NoStack, NO_STACKS), (NoLot, NO_TUPLES + [(1, 0), (2, 2), (5,), (0, True)]), (NoNumber, NO_NUMBERS + [5] + taken),
+    ]))
+
+
+def lists_told():
+    """Each call that tells a list."""
+    for stack in EDGES:
+        yield stacks.parts_of, (stack, stack[1])
+        yield stacks.parts_of, (stack, 0)
+        yield stacks.sides, (stack, 0)
+        yield laying.new_parts, (stack, (), 0)
+    for stack in (PATH, STRIP, TAILED, SEVENTY):
+        yield laying.brings, (stack, tuple(range(len(stack[2]))))
+
+
+class TestRefusals(unittest.TestCase):
+    def due(self, wanted, function, asked):
+        with self.assertRaises(LayError) as caught:
+            function(*asked)
+        self.assertIs(type(caught.exception), wanted, (function.__name__, asked))
+
+    def test_all_functions_are_here(self):
+        names = {function.__name__ for function, good, due in ASKED}
+        self.assertEqual(names | {"is_stack"}, {
+            "is_stack", "is_part", "parts_of", "counts", "sides", "link", "without",
+            "may_lay", "brought", "new_parts", "is_order", "first_wrong", "brings",
+        })
+
+    def test_what_is_right_is_not_refused(self):
+        for function, good, due in ASKED:
+            function(*good)
+
+    def test_the_very_class_at_each_place(self):
+        for function, good, due in ASKED:
+            for at, (wanted, things) in enumerate(due):
+                for thing in things:
+                    self.due(wanted, function, good[:at] + (thing,) + good[at + 1:])
+
+    def test_of_two_wrong_ones_the_left_one_is_refused(self):
+        for function, good, due in ASKED:
+            for left in range(len(due)):
+                for right in range(left + 1, len(due)):
+                    for thing in due[left][1]:
+                        for other in due[right][1]:
+                            asked = good[:left] + (thing,) + good[left + 1:right] + (other,) + good[right + 1:]
+                            self.due(due[left][0], function, asked)
+
+    def test_a_wrong_stack_comes_ahead_of_anything(self):
+        for function in (stacks.is_part, laying.is_order):
+            for thing in NO_STACKS:
+                for other in ODD:
+                    self.due(NoStack, function, (thing, other))
+
+    def test_all_wrong(self):
+        for function, good, due in ASKED:
+            self.due(NoStack, function, (None,) * len(good))
+        self.due(NoNumber, stacks.without, (PATH, 1))
+        self.due(NoOrder, laying.brings, (APART, (0, 1)))
+
+
+class TestAnswers(unittest.TestCase):
+    def test_lookers_answer_true_or_false(self):
+        for thing in ODD:
+            self.assertIs(stacks.is_stack(thing), False)
+            self.assertIs(type(stacks.is_part(PATH, thing)), bool)
+            self.assertIs(type(laying.is_order(PATH, thing)), bool)
+
+    def test_nothing_handed_in_is_changed(self):
+        for function, good, due in ASKED:
+            for at, (wanted, things) in enumerate(due):
+                for thing in things + ODD:
+                    asked = good[:at] + (thing,) + good[at + 1:]
+                    kept = copy.deepcopy(asked)
+                    try:
+                        function(*asked)
+                    except LayError:
+                        pass
+                    self.assertEqual(repr(asked), repr(kept))
+        for thing in ODD:
+            kept = copy.deepcopy(thing)
+            stacks.is_stack(thing)
+            stacks.is_part(PATH, thing)
+            laying.is_order(PATH, thing)
+            self.assertEqual(repr(thing), repr(kept))
+
+    def test_the_same_question_has_the_same_answer(self):
+        for function, good, due in ASKED:
+            told = function(*good)
+            stacks.is_stack(EDGES[0])
+            self.assertEqual(repr(function(*copy.deepcopy(good))), repr(told))
+
+    def test_a_list_told_is_the_askers_own(self):
+        for function, asked in lists_told():
+            told = function(*asked)
+            self.assertIs(type(told), list)
+            kept = list(told)
+            told.append("mine")
+            told[0:1] = []
+            self.assertEqual(function(*asked), kept)
+
+    def test_kinds_of_what_is_told(self):
+        for stack in EDGES:
+            self.assertIs(type(stacks.counts(stack)), tuple)
+            self.assertIs(type(laying.brought(stack, (), 0)), tuple)
+            self.assertTrue(stacks.is_stack(stacks.link(stack, stack[2][0][:1])))
+        for function, asked in lists_told():
+            self.assertEqual({type(each) for each in function(*asked)} - {tuple}, set())
+
+    def test_what_is_told_may_be_handed_in_again(self):
+        for stack in EDGES:
+            for part in stacks.parts_of(stack, stack[1] // 2):
+                self.assertTrue(stacks.is_part(stack, part))
+                self.assertTrue(stacks.is_stack(stacks.link(stacks.link(stack, part), ())))
+
+    def test_lists_rise(self):
+        for function, asked in lists_told():
+            if function != laying.brings:
+                told = function(*asked)
+                self.assertEqual(told, sorted(set(told)))
+
+
+class TestInterface(unittest.TestCase):
+    def test_arguments_and_files(self):
+        wanted = {
+            "stacks": {
+                "is_stack": ["thing"], "is_part": ["stack", "thing"], "parts_of": ["stack", "many"],
+                "counts": ["stack"], "sides": ["stack", "number"], "link": ["stack", "part"],
+                "without": ["stack", "point"],
+            },
+            "laying": {
+                "may_lay": ["stack", "lot", "number"], "brought": ["stack", "lot", "number"],
+                "new_parts": ["stack", "lot", "number"], "is_order": ["stack", "thing"],
+                "first_wrong": ["stack", "row"], "brings": ["stack", "order"],
+            },
+        }
+        for module in (stacks, laying):
+            name = module.__name__.split(".")[1]
+            for function, parameters in wanted[name].items():
+                found = getattr(module, function)
+                self.assertEqual(found.__module__, module.__name__)
+                self.assertEqual(list(inspect.signature(found).parameters), parameters)
+
+
+if __name__ == "__main__":
+    unittest.main()

@@ -1,0 +1,142 @@
+"""The package keeps to the subset of Python: those of its rules that the code itself shows."""
+
+import ast
+import re
+import unittest
+from pathlib import Path
+
+PACKAGE = Path(__file__).resolve().parent.parent / "layfaces"
+FILES = sorted(PACKAGE.glob("*.py"))
+
+BUILTINS = set(
+    "len range enumerate zip min max sum abs sorted reversed int str bool list tuple dict set isinstance ord repr "
+    "any all divmod super Exception ValueError KeyError IndexError LookupError ZeroDivisionError".split()
+)
+METHODS = set(
+    "append clear copy count endswith extend find get index insert isalnum isalpha isdigit islower isspace isupper "
+    "items join keys ljust lower lstrip partition pop remove replace reverse rfind rjust rpartition rsplit rstrip "
+    "setdefault split splitlines startswith strip update upper values zfill bit_length add discard sort "
+    "__init__".split()
+)
+BARRED_NODES = (
+    ast.Global, ast.AsyncFunctionDef, ast.AsyncFor, ast.AsyncWith, ast.Await, ast.Div, ast.MatMult, ast.Import,
+)
+BARRED_WORDS = set(
+    "type typing typing_extensions enum Enum IntEnum StrEnum Flag IntFlag Generic Protocol ABC ABCMeta namedtuple "
+    "NamedTuple TypedDict TYPE_CHECKING abstractmethod".split()
+)
+BARRED_NAMES = set(
+    "register mro elements open input law version_info with_traceback add_note eval exec getattr setattr globals "
+    "locals vars dir id hash next map round filter format print chr float object".split()
+)
+
+
+def trees():
+    for path in FILES:
+        yield path.name, ast.parse(path.read_text())
+
+
+def held_names(tree):
+    """The classes and imports of a file: no variable of it has such a name."""
+    imported = [alias.name for node in tree.body if isinstance(node, ast.ImportFrom) for alias in node.names]
+    return set(imported) | {node.name for node in tree.body if isinstance(node, ast.ClassDef)}
+
+
+def own_names():
+    return {
+        node.name for name, tree in trees() for node in ast.walk(tree)
+        if isinstance(node, (ast.FunctionDef, ast.ClassDef))
+    }
+
+
+class TestText(unittest.TestCase):
+    def test_the_folder_holds_python_files_alone(self):
+        others = [path.name for path in PACKAGE.iterdir() if path.suffix != ".py" and path.name != "__pycache__"]
+        self.assertEqual(others, [])
+        self.assertIn("__init__.py", [path.name for path in FILES])
+
+    def test_characters_and_sizes(self):
+        for path in FILES:
+            text = path.read_text()
+            with self.subTest(file=path.name):
+                self.assertEqual(re.findall("[^ -~\n]", text), [])
+                self.assertLess(len(text.splitlines()), 400)
+                self.assertLessEqual(max(len(line) for line in text.splitlines()), 120)
+
+    def test_words_that_do_not_occur(self):
+        for path in FILES:
+            text = path.read_text()
+            self.assertEqual(set(re.findall("[A-Za-z_0-9]+", text)) & BARRED_WORDS, set(), path.name)
+            self.assertEqual(re.findall("dataclass|overload|contextmanager", text), [], path.name)
+
+
+class TestCode(unittest.TestCase):
+    def test_statements_and_literals(self):
+        for name, tree in trees():
+            for node in ast.walk(tree):
+                self.assertNotIsInstance(node, BARRED_NODES, name)
+                if isinstance(node, ast.Constant):
+                    self.assertNotIsInstance(node.value, (float, complex), name)
+                    self.assertFalse(isinstance(node.value, str) and chr(37) in node.value, name)
+                if isinstance(node, (ast.FunctionDef, ast.ClassDef)):
+                    self.assertEqual(node.decorator_list, [], name)
+                if isinstance(node, ast.FunctionDef):
+                    self.assertLessEqual(node.end_lineno - node.lineno + 1, 40, node.name)
+
+    def test_module_level(self):
+        for name, tree in trees():
+            for node in tree.body:
+                docstring = isinstance(node, ast.Expr) and isinstance(node.value, ast.Constant)
+                plain = isinstance(node, (ast.ImportFrom, ast.FunctionDef, ast.ClassDef, ast.Assign))
+                self.assertTrue(docstring or plain, (name, node.lineno))
+                if isinstance(node, ast.Assign):
+                    self.assertIsInstance(ast.literal_eval(node.value), (int, str, tuple), name)
+
+    def test_imports_name_the_file_that_defines(self):
+        for name, tree in trees():
+            for node in ast.walk(tree):
+                if isinstance(node, ast.ImportFrom):
+                    self.assertEqual((node.level, node.module.split(".")[0]), (0, "layfaces"), name)
+                    defining = ast.parse((PACKAGE / (node.module.split(".")[1] + ".py")).read_text())
+                    defined = {each.name for each in defining.body if hasattr(each, "name")}
+                    self.assertEqual({alias.name for alias in node.names} - defined, set(), name)
+
+    def test_names(self):
+        for name, tree in trees():
+            for node in ast.walk(tree):
+                found = None
+                if isinstance(node, ast.Name):
+                    found = node.id
+                elif isinstance(node, ast.arg):
+                    found = node.arg
+                elif isinstance(node, (ast.FunctionDef, ast.ClassDef)) and node.name != "__init__":
+                    found = node.name
+                if found is not None:
+                    self.assertFalse(found.startswith("_"), (name, found))
+                    self.assertNotIn(found, BARRED_NAMES, name)
+                stored = isinstance(node, ast.Name) and not isinstance(node.ctx, ast.Load)
+                if stored or isinstance(node, ast.arg):
+                    self.assertNotIn(found, BUILTINS | held_names(tree), name)
+
+    def test_calls(self):
+        own = own_names()
+        for name, tree in trees():
+            for node in ast.walk(tree):
+                if isinstance(node, ast.Call) and isinstance(node.func, ast.Name):
+                    self.assertIn(node.func.id, BUILTINS | own, (name, node.lineno))
+                if isinstance(node, ast.Call) and isinstance(node.func, ast.Attribute):
+                    self.assertIn(node.func.attr, METHODS | own, (name, node.lineno))
+
+    def test_sets_stand_where_they_may(self):
+        for name, tree in trees():
+            allowed = []
+            for node in ast.walk(tree):
+                if isinstance(node, ast.Call) and isinstance(node.func, ast.Name) and node.func.id in ("sorted", "len"):
+                    allowed.extend(node.args)
+            for node in ast.walk(tree):
+                if isinstance(node, ast.SetComp):
+                    self.assertIn(node, allowed, (name, node.lineno))
+
+
+if __name__ == "__main__":
+    unittest.main()
