@@ -30,10 +30,10 @@ def brought_on(laid, face):
 
 def lies_on(laid, face):
     """Whether a face may be laid on the faces laid, of which it is none."""
-    # A face laid has k - 1 points in common with this one just where it has all but one
-    # point that this one brings, and what it has in common with another one is among
-    # them just where the other one does not have that point either. So it may be laid
-    # where each face laid lacks some point that it brings.
+    # A face laid has k - 1 points in common with this one where it lacks just one of its
+    # points; these lacked points are what this one brings. What this one has in common
+    # with another face laid is among the k - 1 just where the other lacks that point, too.
+    # So it may be laid where each face laid lacks some point that it brings.
     return not in_some(brought_on(laid, face), laid)
 
 
