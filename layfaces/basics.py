@@ -33,6 +33,11 @@ def is_rising(thing, many):
     return all_below(thing, many) and rises(thing)
 
 
+def is_each_once(thing, many):
+    """Whether anything is a tuple of all whole numbers from 0 to many - 1, each once."""
+    return all_below(thing, many) and sorted(thing) == list(range(many))
+
+
 def has_all(face, points):
     """Whether the face has all the points."""
     return all(point in face for point in points)

@@ -1,6 +1,6 @@
 """Which faces may be laid, what they bring, and in which orders they can be laid."""
 
-from layfaces.basics import all_below, in_some, is_rising, less, parts_in
+from layfaces.basics import in_some, is_each_once, is_rising, less, parts_in
 from layfaces.errors import NoLot, NoNumber, NoOrder, NoRow
 from layfaces.stacks import need_face, need_stack
 
@@ -64,8 +64,7 @@ def new_parts(stack, lot, number):
 
 def is_row(stack, thing):
     """Whether anything is a tuple of all numbers of the stack's faces, each once."""
-    many = len(stack[2])
-    return all_below(thing, many) and sorted(thing) == list(range(many))
+    return is_each_once(thing, len(stack[2]))
 
 
 def wrong_place(stack, row):

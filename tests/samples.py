@@ -1,6 +1,7 @@
 """What the tests share: stacks, odd things, and the document's words told the long way."""
 
 from itertools import combinations
+from math import comb
 
 
 def full(n, k):
@@ -29,6 +30,24 @@ HINGED = (5, 3, ((0, 1, 2), (0, 3, 4)))
 STRIP = (6, 3, ((0, 1, 2), (1, 2, 3), (2, 3, 4), (3, 4, 5)))
 APART_FOUR = (8, 4, ((0, 1, 2, 3), (4, 5, 6, 7)))
 SEVENTY = full(8, 4)
+
+THREE_APART = (6, 2, ((0, 1), (2, 3), (4, 5)))
+RING_AND_ONE = (5, 2, ((0, 1), (0, 2), (1, 2), (3, 4)))
+PINCHED = (5, 3, ((0, 1, 2), (0, 1, 3), (0, 1, 4), (0, 2, 3), (1, 2, 3), (2, 3, 4)))
+# Barred though no told number is below 0 and no link falls apart.
+TWISTED = (6, 3, ((0, 1, 3), (0, 1, 4), (0, 2, 3), (1, 2, 4), (2, 3, 4), (2, 3, 5), (2, 4, 5), (3, 4, 5)))
+# It has orders, but whoever lays the first face that may be laid, each time, is stuck after four.
+STUCK = (6, 3, (
+    (0, 1, 2), (0, 1, 4), (0, 2, 5), (1, 2, 3), (1, 3, 5), (1, 4, 5), (2, 3, 4), (2, 4, 5), (3, 4, 5),
+))
+NINE = (5, 2, full(5, 2)[2][:9])
+TEN = full(5, 2)
+# Ten faces without an order: no told number is below 0, no link falls apart.
+TWISTED_TEN = (6, 3, (
+    (0, 1, 2), (0, 1, 3), (0, 2, 4), (0, 3, 5), (0, 4, 5), (1, 2, 5), (1, 3, 4), (1, 4, 5), (2, 3, 4), (2, 3, 5),
+))
+# Fourteen faces, each two of which have no point or two in common.
+FOURTEEN = (8, 4, tuple(face for face in SEVENTY[2] if face[0] ^ face[1] ^ face[2] ^ face[3] == 0))
 
 EDGES = [
     NOUGHT, (8, 0, ((),)), (1, 1, ((0,),)), full(8, 1), full(4, 4), full(5, 4), ALONE, POINTS, TRIANGLE,
@@ -99,6 +118,12 @@ def told_stack(thing):
     return places != [] and None not in places and places == sorted(set(places))
 
 
+def no_stacks():
+    """Things much like PATH, none of them a stack."""
+    things = [thing for odd in ODD for thing in swapped(PATH, odd)] + list(misshapen(PATH))
+    return [thing for thing in things if not told_stack(thing)]
+
+
 def told_parts(stack):
     return sorted({part for face in stack[2] for many in range(stack[1] + 1) for part in combinations(face, many)})
 
@@ -106,6 +131,14 @@ def told_parts(stack):
 def told_lots(stack):
     numbers = range(len(stack[2]))
     return [lot for many in range(len(stack[2]) + 1) for lot in combinations(numbers, many)]
+
+
+def told_lot(stack, thing):
+    """Whether it is a lot, by the numbers of faces that may stand in it."""
+    numbers = {repr(number): number for number in range(len(stack[2]))}
+    if type(thing) is not tuple or any(repr(each) not in numbers for each in thing):
+        return False
+    return list(thing) == sorted(set(thing))
 
 
 def told_may_lay(stack, lot, number):
@@ -132,3 +165,59 @@ def told_first_wrong(stack, row):
         if not told_may_lay(stack, row[:place], number):
             return place
     return None
+
+
+def told_laid(stack):
+    """The words of 3.2: each lot of which one face, laid last, may be laid on a laid one."""
+    found = [()]
+    for lot in told_lots(stack)[1:]:
+        rests = [(tuple(each for each in lot if each != last), last) for last in lot]
+        if any(rest in found and told_may_lay(stack, rest, last) for rest, last in rests):
+            found.append(lot)
+    return sorted(found)
+
+
+def told_numbers(stack):
+    """The words of 4.1, one for one."""
+    k = stack[1]
+    many = [sum(len(part) == j for part in told_parts(stack)) for j in range(k + 1)]
+    return tuple(
+        sum((-1) ** (i - j) * many[j] * comb(k - j, k - i) for j in range(i + 1)) for i in range(k + 1)
+    )
+
+
+def told_apart(stack, part):
+    """The words of 3.3 on a part whose link falls apart: its faces in two lots, in each way."""
+    rests = [set(face) - set(part) for face in stack[2] if set(part) <= set(face)]
+    for many in range(1, len(rests)):
+        for some in combinations(range(len(rests)), many):
+            others = [at for at in range(len(rests)) if at not in some]
+            if not any(rests[at] & rests[other] for at in some for other in others):
+                return True
+    return False
+
+
+def told_closed(stack, lots):
+    """The words of 3.3 on lots that are closed, of a tuple of lots."""
+    if list(lots) != sorted(set(lots)) or () not in lots or tuple(range(len(stack[2]))) in lots:
+        return False
+    return all(
+        tuple(sorted(lot + (number,))) in lots
+        for lot in lots for number in range(len(stack[2])) if told_may_lay(stack, lot, number)
+    )
+
+
+def told_bar(stack, thing):
+    """The words of 3.3, one for one."""
+    if type(thing) is not tuple or len(thing) != 2 or type(thing[0]) is not str:
+        return False
+    kind, shown = thing
+    if kind == "less":
+        return one_of(shown, range(stack[1] + 1)) and told_numbers(stack)[shown] < 0
+    if kind == "apart":
+        parts = [part for part in told_parts(stack) if len(part) <= stack[1] - 2]
+        return one_of(shown, parts) and told_apart(stack, shown)
+    if kind != "closed" or type(shown) is not tuple:
+        return False
+    lots = {repr(lot) for lot in told_lots(stack)}
+    return all(repr(lot) in lots for lot in shown) and told_closed(stack, shown)

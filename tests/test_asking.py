@@ -4,9 +4,11 @@ import copy
 import inspect
 import unittest
 
-from layfaces import laying, stacks
-from layfaces.errors import LayError, NoLot, NoNumber, NoOrder, NoPart, NoRow, NoStack
-from samples import APART, EDGES, ODD, PATH, SEVENTY, STRIP, TAILED, nested
+from layfaces import bars, counted, kinds, laying, orders, stacks
+from layfaces.errors import LayError, NoLot, NoNames, NoNumber, NoOrder, NoPart, NoRow, NoStack
+from samples import (
+    APART, EDGES, NINE, ODD, PATH, PINCHED, RING_AND_ONE, SEVENTY, STRIP, STUCK, TAILED, TEN, nested,
+)
 
 GOOD_FIVE = (6, 3, ((0, 1, 2), (0, 1, 3), (0, 2, 3), (1, 2, 3), (1, 2, 4)))
 
@@ -42,6 +44,32 @@ for function in (laying.may_lay, laying.brought, laying.new_parts):
     ASKED.append((function, (GOOD_FIVE, (0, 2), 3), [
         (NoStack, NO_STACKS), (NoLot, NO_TUPLES + [(1, 0), (2, 2), (5,), (0, True)]), (NoNumber, NO_NUMBERS + [5] + taken),
     ]))
+for function in (
+    orders.first_order, orders.many_orders, orders.laid_lots, orders.most_laid, orders.stuck_lots, bars.bar_for,
+    counted.told, counted.evened, counted.told_around, kinds.first_untraded, kinds.first_unpushed, kinds.plain_order,
+):
+    ASKED.append((function, (GOOD_FIVE,), [(NoStack, NO_STACKS)]))
+ASKED += [
+    (orders.leads_on, (GOOD_FIVE, (0, 1)), [
+        (NoStack, NO_STACKS), (NoLot, NO_TUPLES + [(1, 0), (2, 2), (5,), (0, True), (1, 4), (0, 1, 5)]),
+    ]),
+    (bars.is_bar, (APART, ("apart", ())), [(NoStack, NO_STACKS)]),
+    (counted.counts_from, ((1, 2, 3),), [
+        (NoRow, [each for each in NO_TUPLES if each not in ((-1,), (0, 0))] + [(), (1,) * 6, (1, 10 ** 6 + 1)]),
+    ]),
+    (counted.by_brought, (GOOD_FIVE, (1, 0, 2, 3, 4)), [
+        (NoStack, NO_STACKS), (NoOrder, NO_TUPLES + [(), (1, 4, 0, 2, 3), (0, 1, 2, 3), (False, True, 2, 3, 4)]),
+    ]),
+    (kinds.full_stack, (5, 2), [(NoNumber, NO_NUMBERS + [0, 9]), (NoNumber, NO_NUMBERS + [5])]),
+    (kinds.pairs_stack, (3,), [(NoNumber, NO_NUMBERS + [0, 5])]),
+    (kinds.row_stack, (5,), [(NoNumber, NO_NUMBERS + [0, 1, 9])]),
+    (kinds.ring_stack, (5,), [(NoNumber, NO_NUMBERS + [0, 2, 9])]),
+    (kinds.named_order, (kinds.full_stack(4, 2), (3, 1, 0, 2)), [
+        (NoStack, NO_STACKS), (NoNames, NO_TUPLES + [(), (0, 1, 2), (0, 1, 2, 4), (0, 1, 2, 2), (False, True, 2, 3)]),
+    ]),
+]
+# What takes anything but a stack: no answer of these is an error, once the stack is one.
+LOOKERS = (stacks.is_part, laying.is_order, bars.is_bar)
 
 
 def lists_told():
@@ -53,6 +81,9 @@ def lists_told():
         yield laying.new_parts, (stack, (), 0)
     for stack in (PATH, STRIP, TAILED, SEVENTY):
         yield laying.brings, (stack, tuple(range(len(stack[2]))))
+    for stack in (APART, PATH, STRIP, PINCHED, RING_AND_ONE, STUCK, NINE):
+        yield orders.laid_lots, (stack,)
+        yield orders.stuck_lots, (stack,)
 
 
 class TestRefusals(unittest.TestCase):
@@ -66,6 +97,10 @@ class TestRefusals(unittest.TestCase):
         self.assertEqual(names | {"is_stack"}, {
             "is_stack", "is_part", "parts_of", "counts", "sides", "link", "without",
             "may_lay", "brought", "new_parts", "is_order", "first_wrong", "brings",
+            "first_order", "many_orders", "laid_lots", "most_laid", "stuck_lots", "leads_on", "is_bar", "bar_for",
+            "told", "counts_from", "by_brought", "evened", "told_around",
+            "full_stack", "pairs_stack", "row_stack", "ring_stack",
+            "first_untraded", "first_unpushed", "plain_order", "named_order",
         })
 
     def test_what_is_right_is_not_refused(self):
@@ -88,24 +123,32 @@ class TestRefusals(unittest.TestCase):
                             self.due(due[left][0], function, asked)
 
     def test_a_wrong_stack_comes_ahead_of_anything(self):
-        for function in (stacks.is_part, laying.is_order):
+        for function in LOOKERS:
             for thing in NO_STACKS:
                 for other in ODD:
                     self.due(NoStack, function, (thing, other))
 
     def test_all_wrong(self):
         for function, good, due in ASKED:
-            self.due(NoStack, function, (None,) * len(good))
+            self.due(due[0][0], function, (None,) * len(good))
         self.due(NoNumber, stacks.without, (PATH, 1))
         self.due(NoOrder, laying.brings, (APART, (0, 1)))
+
+    def test_names_are_refused_of_a_stack_that_is_not_traded(self):
+        self.assertIsNone(kinds.named_order(APART, (0, 1, 2, 3)))
+        self.due(NoNames, kinds.named_order, (APART, (0, 1, 2)))
+
+    def test_what_is_no_lot_comes_ahead_of_too_many_faces(self):
+        for thing in NO_TUPLES + [(1, 0), (10,)]:
+            self.due(NoLot, orders.leads_on, (TEN, thing))
 
 
 class TestAnswers(unittest.TestCase):
     def test_lookers_answer_true_or_false(self):
         for thing in ODD:
             self.assertIs(stacks.is_stack(thing), False)
-            self.assertIs(type(stacks.is_part(PATH, thing)), bool)
-            self.assertIs(type(laying.is_order(PATH, thing)), bool)
+            for function in LOOKERS:
+                self.assertIs(type(function(PATH, thing)), bool)
 
     def test_nothing_handed_in_is_changed(self):
         for function, good, due in ASKED:
@@ -121,8 +164,8 @@ class TestAnswers(unittest.TestCase):
         for thing in ODD:
             kept = copy.deepcopy(thing)
             stacks.is_stack(thing)
-            stacks.is_part(PATH, thing)
-            laying.is_order(PATH, thing)
+            for function in LOOKERS:
+                function(PATH, thing)
             self.assertEqual(repr(thing), repr(kept))
 
     def test_the_same_question_has_the_same_answer(self):
@@ -135,7 +178,7 @@ class TestAnswers(unittest.TestCase):
         for function, asked in lists_told():
             told = function(*asked)
             self.assertIs(type(told), list)
-            kept = list(told)
+            kept = copy.deepcopy(told)
             told.append("mine")
             told[0:1] = []
             self.assertEqual(function(*asked), kept)
@@ -143,6 +186,7 @@ class TestAnswers(unittest.TestCase):
     def test_kinds_of_what_is_told(self):
         for stack in EDGES:
             self.assertIs(type(stacks.counts(stack)), tuple)
+            self.assertIs(type(counted.told(stack)), tuple)
             self.assertIs(type(laying.brought(stack, (), 0)), tuple)
             self.assertTrue(stacks.is_stack(stacks.link(stack, stack[2][0][:1])))
         for function, asked in lists_told():
@@ -153,6 +197,18 @@ class TestAnswers(unittest.TestCase):
             for part in stacks.parts_of(stack, stack[1] // 2):
                 self.assertTrue(stacks.is_part(stack, part))
                 self.assertTrue(stacks.is_stack(stacks.link(stacks.link(stack, part), ())))
+
+    def test_orders_and_bars_told_may_be_handed_in_again(self):
+        for stack in EDGES + [PINCHED, RING_AND_ONE, STUCK, NINE]:
+            self.assertEqual(counted.counts_from(counted.told(stack)), stacks.counts(stack))
+            if len(stack[2]) < 10:
+                for lot in orders.laid_lots(stack):
+                    self.assertIs(type(orders.leads_on(stack, lot)), bool)
+                order, bar = orders.first_order(stack), bars.bar_for(stack)
+                if order is None:
+                    self.assertIs(bars.is_bar(stack, bar), True)
+                else:
+                    self.assertEqual(counted.by_brought(stack, order), counted.told(stack))
 
     def test_lists_rise(self):
         for function, asked in lists_told():
@@ -174,8 +230,22 @@ class TestInterface(unittest.TestCase):
                 "new_parts": ["stack", "lot", "number"], "is_order": ["stack", "thing"],
                 "first_wrong": ["stack", "row"], "brings": ["stack", "order"],
             },
+            "orders": {
+                "first_order": ["stack"], "many_orders": ["stack"], "laid_lots": ["stack"], "most_laid": ["stack"],
+                "stuck_lots": ["stack"], "leads_on": ["stack", "lot"],
+            },
+            "bars": {"is_bar": ["stack", "thing"], "bar_for": ["stack"]},
+            "counted": {
+                "told": ["stack"], "counts_from": ["row"], "by_brought": ["stack", "order"], "evened": ["stack"],
+                "told_around": ["stack"],
+            },
+            "kinds": {
+                "full_stack": ["n", "k"], "pairs_stack": ["d"], "row_stack": ["n"], "ring_stack": ["n"],
+                "first_untraded": ["stack"], "first_unpushed": ["stack"], "plain_order": ["stack"],
+                "named_order": ["stack", "names"],
+            },
         }
-        for module in (stacks, laying):
+        for module in (stacks, laying, orders, bars, counted, kinds):
             name = module.__name__.split(".")[1]
             for function, parameters in wanted[name].items():
                 found = getattr(module, function)

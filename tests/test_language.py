@@ -18,6 +18,9 @@ METHODS = set(
     "setdefault split splitlines startswith strip update upper values zfill bit_length add discard sort "
     "__init__".split()
 )
+# What these give is iterated at once: they stand in a loop's head, or as all that one of the others takes.
+AT_ONCE = set("range enumerate zip reversed items keys values".split())
+TAKERS = set("list tuple dict sorted sum any all enumerate zip min max".split())
 BARRED_NODES = (
     ast.Global, ast.AsyncFunctionDef, ast.AsyncFor, ast.AsyncWith, ast.Await, ast.Div, ast.MatMult, ast.Import,
 )
@@ -40,6 +43,11 @@ def held_names(tree):
     """The classes and imports of a file: no variable of it has such a name."""
     imported = [alias.name for node in tree.body if isinstance(node, ast.ImportFrom) for alias in node.names]
     return set(imported) | {node.name for node in tree.body if isinstance(node, ast.ClassDef)}
+
+
+def called(call):
+    """The name of what is called, of a function or a method."""
+    return getattr(call.func, "id", None) or getattr(call.func, "attr", None)
 
 
 def own_names():
@@ -99,6 +107,7 @@ class TestCode(unittest.TestCase):
                     self.assertEqual((node.level, node.module.split(".")[0]), (0, "layfaces"), name)
                     defining = ast.parse((PACKAGE / (node.module.split(".")[1] + ".py")).read_text())
                     defined = {each.name for each in defining.body if hasattr(each, "name")}
+                    defined |= {each.targets[0].id for each in defining.body if isinstance(each, ast.Assign)}
                     self.assertEqual({alias.name for alias in node.names} - defined, set(), name)
 
     def test_names(self):
@@ -126,6 +135,30 @@ class TestCode(unittest.TestCase):
                     self.assertIn(node.func.id, BUILTINS | own, (name, node.lineno))
                 if isinstance(node, ast.Call) and isinstance(node.func, ast.Attribute):
                     self.assertIn(node.func.attr, METHODS | own, (name, node.lineno))
+
+    def test_what_is_iterated_at_once(self):
+        for name, tree in trees():
+            allowed = []
+            for node in ast.walk(tree):
+                if isinstance(node, (ast.For, ast.comprehension)):
+                    allowed.append(node.iter)
+                if isinstance(node, ast.Call) and called(node) in TAKERS:
+                    allowed.extend(node.args[:1])
+                if isinstance(node, ast.Call) and called(node) == "reversed":
+                    allowed.extend(each for each in node.args if isinstance(each, ast.Call) and called(each) == "range")
+            for node in ast.walk(tree):
+                if isinstance(node, ast.Call) and called(node) in AT_ONCE:
+                    self.assertIn(node, allowed, (name, node.lineno))
+
+    def test_no_file_imports_one_that_imports_it(self):
+        needs = {}
+        for name, tree in trees():
+            modules = [node.module for node in ast.walk(tree) if isinstance(node, ast.ImportFrom)]
+            needs[name[:-3]] = {module.split(".")[1] for module in modules}
+        while needs:
+            free = [name for name in needs if not needs[name] & set(needs)]
+            self.assertNotEqual(free, [], needs)
+            needs = {name: needs[name] for name in needs if name not in free}
 
     def test_sets_stand_where_they_may(self):
         for name, tree in trees():

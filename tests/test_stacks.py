@@ -6,8 +6,8 @@ from itertools import combinations, permutations
 from layfaces.errors import NoNumber, NoPart, NoStack
 from layfaces.stacks import counts, is_part, is_stack, link, parts_of, sides, without
 from samples import (
-    ALONE, APART, EDGES, HINGED, NOUGHT, ODD, PATH, POINTS, SEVENTY, TAILED, TRIANGLE,
-    full, misshapen, nested, one_of, small_stacks, swapped, told_parts, told_stack,
+    ALONE, APART, EDGES, HINGED, NOUGHT, ODD, PATH, POINTS, SEVENTY, TAILED, TRIANGLE, full, misshapen, nested,
+    no_stacks, one_of, small_stacks, swapped, told_parts, told_stack,
 )
 
 SMALL = small_stacks(4)
@@ -242,12 +242,10 @@ class TestNoStack(unittest.TestCase):
             lambda thing: is_part(thing, ()), lambda thing: parts_of(thing, 0), counts,
             lambda thing: sides(thing, 0), lambda thing: link(thing, ()), lambda thing: without(thing, 3),
         ]
-        things = [thing for odd in ODD for thing in swapped(PATH, odd)] + list(misshapen(PATH))
-        for thing in things:
-            if not told_stack(thing):
-                for ask in asked:
-                    with self.assertRaises(NoStack):
-                        ask(thing)
+        for thing in no_stacks():
+            for ask in asked:
+                with self.assertRaises(NoStack):
+                    ask(thing)
 
 
 if __name__ == "__main__":
