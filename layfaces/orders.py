@@ -48,8 +48,9 @@ def meetings(stack):
 
 
 def lies_on_bits(meets, bits):
-    """Whether a face, of which all meetings are handed in, may be laid on a lot that it is not in."""
-    # As in laying: it may where no face of the lot has all the points that it brings.
+    """Whether a face, of which all meetings are handed in, may be laid on a lot."""
+    # As in laying: it may where no face of the lot has all the points that it brings. By this
+    # a face of the lot may not either: whatever its points are, it has them itself.
     left = bits
     for others, having in meets:
         if bits & others:
@@ -59,10 +60,7 @@ def lies_on_bits(meets, bits):
 
 def layable(met, bits):
     """The rising list of the numbers of the faces that may be laid on the lot."""
-    return [
-        number for number, meets in enumerate(met)
-        if not bits >> number & 1 and lies_on_bits(meets, bits)
-    ]
+    return [number for number, meets in enumerate(met) if lies_on_bits(meets, bits)]
 
 
 def onward(met):
