@@ -1,6 +1,6 @@
 """What all modules ask of numbers, rising tuples and faces."""
 
-from layfaces.errors import NoNumber
+from layfaces.errors import NoNumber, TooGreat
 
 
 def is_within(thing, least, most):
@@ -15,6 +15,12 @@ def need_within(number, least, most):
     """Refuse what is no whole number from least to most."""
     if not is_within(number, least, most):
         raise NoNumber(f"no whole number from {least} to {most}")
+
+
+def need_at_most(many, most):
+    """Refuse so many of something, where there are more than may be."""
+    if many > most:
+        raise TooGreat(many, most)
 
 
 def all_below(thing, many):

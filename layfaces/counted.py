@@ -1,9 +1,9 @@
 """The numbers that are told by what each face brings, and the counts that come of them."""
 
-from layfaces.basics import is_within, need_within
+from layfaces.basics import is_within
 from layfaces.errors import NoRow
 from layfaces.laying import brings
-from layfaces.stacks import MOST_IN_FACE, counts, link, need_stack, parts_of
+from layfaces.stacks import counts, link, need_points, need_stack, parts_of
 
 MOST_NUMBERS = 5
 MOST_TOLD = 1000000
@@ -65,7 +65,6 @@ def evened(stack):
 def told_around(stack):
     """The tuple of the sums, over all points in faces, of the told numbers of their links."""
     need_stack(stack)
-    k = stack[1]
-    need_within(k, 1, MOST_IN_FACE)
+    need_points(stack)
     around = [told(link(stack, part)) for part in parts_of(stack, 1)]
-    return tuple([sum([row[i] for row in around]) for i in range(k)])
+    return tuple([sum([row[i] for row in around]) for i in range(stack[1])])

@@ -1,7 +1,7 @@
 """In which orders the faces of a stack can be laid, reckoned lot by lot."""
 
-from layfaces.basics import has_all, less
-from layfaces.errors import NoLot, TooGreat
+from layfaces.basics import has_all, less, need_at_most
+from layfaces.errors import NoLot
 from layfaces.laying import need_lot
 from layfaces.stacks import need_stack
 
@@ -12,9 +12,7 @@ MOST_ORDERED = 9
 
 def need_few(stack):
     """Refuse a stack of too many faces to reckon all its lots."""
-    many = len(stack[2])
-    if many > MOST_ORDERED:
-        raise TooGreat(many, MOST_ORDERED)
+    need_at_most(len(stack[2]), MOST_ORDERED)
 
 
 def need_orderly(stack):

@@ -37,6 +37,11 @@ def need_face(stack, number):
     need_within(number, 0, len(stack[2]) - 1)
 
 
+def need_points(stack):
+    """Refuse a stack whose faces have no points."""
+    need_within(stack[1], 1, MOST_IN_FACE)
+
+
 def is_part(stack, thing):
     """Whether anything is a part of the stack."""
     need_stack(stack)

@@ -1,6 +1,6 @@
 """What the tests share: stacks, odd things, and the document's words told the long way."""
 
-from itertools import combinations
+from itertools import combinations, product
 from math import comb
 
 
@@ -48,6 +48,13 @@ TWISTED_TEN = (6, 3, (
 ))
 # Fourteen faces, each two of which have no point or two in common.
 FOURTEEN = (8, 4, tuple(face for face in SEVENTY[2] if face[0] ^ face[1] ^ face[2] ^ face[3] == 0))
+
+# It has orders, but no taking.
+LAID_UNTAKEN = (6, 3, (
+    (0, 1, 2), (0, 1, 3), (0, 1, 4), (0, 2, 3), (0, 2, 5), (1, 3, 4), (1, 4, 5), (2, 3, 5), (2, 4, 5), (3, 4, 5),
+))
+# It has takings, but none that begins with the first point that may be taken.
+LATER_TAKEN = (6, 3, ((0, 1, 2), (0, 1, 4), (0, 1, 5), (1, 2, 5), (1, 3, 4)))
 
 EDGES = [
     NOUGHT, (8, 0, ((),)), (1, 1, ((0,),)), full(8, 1), full(4, 4), full(5, 4), ALONE, POINTS, TRIANGLE,
@@ -167,6 +174,21 @@ def told_first_wrong(stack, row):
     return None
 
 
+def told_orders(stack, most):
+    """At most so many orders of the stack, the first ones as tuples compare, by the words of 2.4."""
+    found = []
+
+    def go(row):
+        if len(row) == len(stack[2]):
+            found.append(row)
+        for number in range(len(stack[2])):
+            if len(found) < most and told_may_lay(stack, row, number):
+                go(row + (number,))
+
+    go(())
+    return found
+
+
 def told_laid(stack):
     """The words of 3.2: each lot of which one face, laid last, may be laid on a laid one."""
     found = [()]
@@ -184,6 +206,21 @@ def told_numbers(stack):
     return tuple(
         sum((-1) ** (i - j) * many[j] * comb(k - j, k - i) for j in range(i + 1)) for i in range(k + 1)
     )
+
+
+def ring(n):
+    return (n, 2, tuple(sorted([(at, at + 1) for at in range(n - 1)] + [(0, n - 1)])))
+
+
+def pairs(d):
+    return (2 * d, d, tuple(tuple(2 * i + picked for i, picked in enumerate(row)) for row in product((0, 1), repeat=d)))
+
+
+# Each part of k - 1 points is in just two faces.
+SHUT = [ring(n) for n in range(3, 9)] + [pairs(d) for d in range(1, 5)] + [full(k + 1, k) for k in range(1, 5)] + [
+    (8, 1, ((3,), (6,))), (7, 2, ((1, 3), (1, 6), (3, 6))), TWISTED_TEN,
+    (6, 2, ((0, 1), (0, 2), (1, 2), (3, 4), (3, 5), (4, 5))),
+]
 
 
 def told_apart(stack, part):

@@ -4,10 +4,13 @@ import copy
 import inspect
 import unittest
 
-from layfaces import bars, counted, kinds, laying, orders, stacks
-from layfaces.errors import LayError, NoLot, NoNames, NoNumber, NoOrder, NoPart, NoRow, NoStack
+from layfaces import bars, counted, joins, kinds, laying, orders, rims, stacks, takings
+from layfaces.errors import (
+    LayError, NoLot, NoNames, NoNumber, NoOrder, NoPart, NoRim, NoRow, NoStack, NoTaking, TooGreat,
+)
 from samples import (
-    APART, EDGES, NINE, ODD, PATH, PINCHED, RING_AND_ONE, SEVENTY, STRIP, STUCK, TAILED, TEN, nested,
+    ALONE, APART, EDGES, HINGED, NINE, NOUGHT, ODD, PATH, PINCHED, POINTS, RING_AND_ONE, SEVENTY, STRIP, STUCK,
+    TAILED, TEN, TRIANGLE, nested,
 )
 
 GOOD_FIVE = (6, 3, ((0, 1, 2), (0, 1, 3), (0, 2, 3), (1, 2, 3), (1, 2, 4)))
@@ -68,8 +71,38 @@ ASKED += [
         (NoStack, NO_STACKS), (NoNames, NO_TUPLES + [(), (0, 1, 2), (0, 1, 2, 4), (0, 1, 2, 2), (False, True, 2, 3)]),
     ]),
 ]
+NO_ORDERS = NO_TUPLES + [(), (1, 4, 0, 2, 3), (0, 1, 2, 3), (False, True, 2, 3, 4)]
+NO_NAMES = NO_TUPLES + [(), (0, 1, 2, 3, 4), (0, 1, 2, 3, 4, 6), (0, 1, 2, 3, 4, 4), (False, True, 2, 3, 4, 5)]
+GOOD_TAKING = (4, (3, None, (2, None, (0, None, None))), None)
+NO_TAKINGS = NO_TUPLES + [(), (4, None, None), list(GOOD_TAKING), GOOD_TAKING[:2], GOOD_TAKING + (None,)]
+NO_TAKINGS += [(5,) + GOOD_TAKING[1:], (4, GOOD_TAKING[1], (0, None, None)), (4, list(GOOD_TAKING[1]), None)]
+GOOD_TWO = (2, 1, ((0,), (1,)))
+ONE_LESS = (5, 3, GOOD_FIVE[2])
+OTHER_K = (6, 2, ((0, 1),))
+for function in (rims.rim, rims.thick, rims.is_shut, rims.rim_stack, takings.takable, takings.some_taking, joins.cone):
+    ASKED.append((function, (GOOD_FIVE,), [(NoStack, NO_STACKS)]))
+for function in (rims.turned_back, rims.stays_order):
+    ASKED.append((function, (GOOD_FIVE, (1, 0, 2, 3, 4)), [(NoStack, NO_STACKS), (NoOrder, NO_ORDERS)]))
+for function in (takings.taking_size, takings.taken_order):
+    ASKED.append((function, (GOOD_FIVE, GOOD_TAKING), [(NoStack, NO_STACKS), (NoTaking, NO_TAKINGS + [None])]))
+for function in (joins.named, joins.named_back):
+    ASKED.append((function, (GOOD_FIVE, (5, 0, 4, 1, 3, 2)), [(NoStack, NO_STACKS), (NoNames, NO_NAMES)]))
+for function in (joins.put_on, joins.shared_parts):
+    ASKED.append((function, (GOOD_FIVE, (6, 3, ((0, 1, 5),))), [
+        (NoStack, NO_STACKS), (NoStack, NO_STACKS + [ONE_LESS, OTHER_K]),
+    ]))
+ASKED += [
+    (takings.may_take, (GOOD_FIVE, 4), [(NoStack, NO_STACKS), (NoNumber, NO_NUMBERS + [6])]),
+    (takings.is_taking, (GOOD_FIVE, GOOD_TAKING), [(NoStack, NO_STACKS)]),
+    (joins.joined, (GOOD_FIVE, GOOD_TWO), [(NoStack, NO_STACKS), (NoStack, NO_STACKS)]),
+    (joins.joined_order, (GOOD_FIVE, GOOD_TWO, (1, 0, 2, 3, 4), (1, 0)), [
+        (NoStack, NO_STACKS), (NoStack, NO_STACKS), (NoOrder, NO_ORDERS), (NoOrder, NO_TUPLES + [(), (1,), (0, 1, 2)]),
+    ]),
+]
 # What takes anything but a stack: no answer of these is an error, once the stack is one.
-LOOKERS = (stacks.is_part, laying.is_order, bars.is_bar)
+LOOKERS = (stacks.is_part, laying.is_order, bars.is_bar, takings.is_taking)
+# What tells a list of numbers, not of tuples.
+NUMBERS_TOLD = (takings.takable,)
 
 
 def lists_told():
@@ -84,6 +117,14 @@ def lists_told():
     for stack in (APART, PATH, STRIP, PINCHED, RING_AND_ONE, STUCK, NINE):
         yield orders.laid_lots, (stack,)
         yield orders.stuck_lots, (stack,)
+    for stack in (ALONE, HINGED, STRIP, PATH):
+        yield rims.rim, (stack,)
+    for stack in (POINTS, TAILED, SEVENTY):
+        yield rims.thick, (stack,)
+    for stack in (PATH, STRIP, TAILED, SEVENTY):
+        yield takings.takable, (stack,)
+        yield joins.shared_parts, (stack, stack)
+    yield joins.shared_parts, (PATH, APART)
 
 
 class TestRefusals(unittest.TestCase):
@@ -101,6 +142,9 @@ class TestRefusals(unittest.TestCase):
             "told", "counts_from", "by_brought", "evened", "told_around",
             "full_stack", "pairs_stack", "row_stack", "ring_stack",
             "first_untraded", "first_unpushed", "plain_order", "named_order",
+            "rim", "thick", "is_shut", "turned_back", "stays_order", "rim_stack",
+            "may_take", "takable", "is_taking", "some_taking", "taking_size", "taken_order",
+            "named", "named_back", "cone", "joined", "joined_order", "put_on", "shared_parts",
         })
 
     def test_what_is_right_is_not_refused(self):
@@ -137,6 +181,25 @@ class TestRefusals(unittest.TestCase):
     def test_names_are_refused_of_a_stack_that_is_not_traded(self):
         self.assertIsNone(kinds.named_order(APART, (0, 1, 2, 3)))
         self.due(NoNames, kinds.named_order, (APART, (0, 1, 2)))
+
+    def test_no_points_come_ahead_of_no_rim(self):
+        for function in (rims.rim, rims.thick, rims.rim_stack):
+            self.due(NoNumber, function, (NOUGHT,))
+        self.due(NoRim, rims.rim_stack, (TRIANGLE,))
+        self.assertIs(rims.is_shut(NOUGHT), False)
+
+    def test_too_great_comes_behind_all_else(self):
+        some, order = tuple(range(10)), tuple(range(70))
+        for wanted, function, asked in [
+            (TooGreat, takings.some_taking, (SEVENTY,)), (TooGreat, joins.cone, (SEVENTY,)),
+            (TooGreat, joins.joined, (SEVENTY, PATH)), (NoStack, joins.joined, (SEVENTY, None)),
+            (TooGreat, joins.joined_order, (SEVENTY, TEN, order, some)),
+            (NoOrder, joins.joined_order, (SEVENTY, TEN, order, None)),
+            (NoOrder, joins.joined_order, (SEVENTY, TEN, None, some)),
+            (NoOrder, joins.joined_order, (SEVENTY, TEN, order[1:], some)),
+            (NoStack, joins.joined_order, (SEVENTY, [], None, None)),
+        ]:
+            self.due(wanted, function, asked)
 
     def test_what_is_no_lot_comes_ahead_of_too_many_faces(self):
         for thing in NO_TUPLES + [(1, 0), (10,)]:
@@ -190,7 +253,8 @@ class TestAnswers(unittest.TestCase):
             self.assertIs(type(laying.brought(stack, (), 0)), tuple)
             self.assertTrue(stacks.is_stack(stacks.link(stack, stack[2][0][:1])))
         for function, asked in lists_told():
-            self.assertEqual({type(each) for each in function(*asked)} - {tuple}, set())
+            wanted = int if function in NUMBERS_TOLD else tuple
+            self.assertEqual({type(each) for each in function(*asked)} - {wanted}, set())
 
     def test_what_is_told_may_be_handed_in_again(self):
         for stack in EDGES:
@@ -244,8 +308,21 @@ class TestInterface(unittest.TestCase):
                 "first_untraded": ["stack"], "first_unpushed": ["stack"], "plain_order": ["stack"],
                 "named_order": ["stack", "names"],
             },
+            "rims": {
+                "rim": ["stack"], "thick": ["stack"], "is_shut": ["stack"], "turned_back": ["stack", "order"],
+                "stays_order": ["stack", "order"], "rim_stack": ["stack"],
+            },
+            "takings": {
+                "may_take": ["stack", "point"], "takable": ["stack"], "is_taking": ["stack", "thing"],
+                "some_taking": ["stack"], "taking_size": ["stack", "taking"], "taken_order": ["stack", "taking"],
+            },
+            "joins": {
+                "named": ["stack", "names"], "named_back": ["stack", "names"], "cone": ["stack"],
+                "joined": ["one", "other"], "joined_order": ["one", "other", "order", "another"],
+                "put_on": ["one", "other"], "shared_parts": ["one", "other"],
+            },
         }
-        for module in (stacks, laying, orders, bars, counted, kinds):
+        for module in (stacks, laying, orders, bars, counted, kinds, rims, takings, joins):
             name = module.__name__.split(".")[1]
             for function, parameters in wanted[name].items():
                 found = getattr(module, function)
