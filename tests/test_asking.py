@@ -4,9 +4,9 @@ import copy
 import inspect
 import unittest
 
-from layfaces import bars, counted, joins, kinds, laying, orders, rims, stacks, takings
+from layfaces import bars, counted, desk, joins, kinds, laying, near, orders, rims, rounds, stacks, takings, texts
 from layfaces.errors import (
-    LayError, NoLot, NoNames, NoNumber, NoOrder, NoPart, NoRim, NoRow, NoStack, NoTaking, TooGreat,
+    LayError, NoLine, NoLot, NoNames, NoNumber, NoOrder, NoPart, NoRim, NoRow, NoStack, NoTaking, NoText, TooGreat,
 )
 from samples import (
     ALONE, APART, EDGES, HINGED, NINE, NOUGHT, ODD, PATH, PINCHED, POINTS, RING_AND_ONE, SEVENTY, STRIP, STUCK,
@@ -99,10 +99,37 @@ ASKED += [
         (NoStack, NO_STACKS), (NoStack, NO_STACKS), (NoOrder, NO_ORDERS), (NoOrder, NO_TUPLES + [(), (1,), (0, 1, 2)]),
     ]),
 ]
+GOOD_ORDER = (1, 0, 2, 3, 4)
+for function in (near.pieces, rounds.many_rounds, texts.shown):
+    ASKED.append((function, (GOOD_FIVE,), [(NoStack, NO_STACKS)]))
+for function in (near.far, near.some_way):
+    ASKED.append((function, (GOOD_FIVE, 0, 4), [
+        (NoStack, NO_STACKS), (NoNumber, NO_NUMBERS + [5]), (NoNumber, NO_NUMBERS + [5]),
+    ]))
+ASKED += [
+    (near.near, (GOOD_FIVE, 4), [(NoStack, NO_STACKS), (NoNumber, NO_NUMBERS + [5])]),
+    (near.is_way, (GOOD_FIVE, 0, 4, (0, 4)), [
+        (NoStack, NO_STACKS), (NoNumber, NO_NUMBERS + [5]), (NoNumber, NO_NUMBERS + [5]),
+    ]),
+    (near.leaned, (GOOD_FIVE, GOOD_ORDER), [(NoStack, NO_STACKS), (NoOrder, NO_ORDERS)]),
+    (near.link_order, (GOOD_FIVE, GOOD_ORDER, (1, 2)), [
+        (NoStack, NO_STACKS), (NoOrder, NO_ORDERS), (NoPart, NO_TUPLES + [(1, 0), (0, 4), (5,), (6,)]),
+    ]),
+    (rounds.is_round, (GOOD_FIVE, (0, 2)), [
+        (NoStack, NO_STACKS), (NoLot, NO_TUPLES + [(1, 0), (2, 2), (5,), (0, True)]),
+    ]),
+    (rounds.round_by, (GOOD_FIVE, GOOD_ORDER, 3), [
+        (NoStack, NO_STACKS), (NoOrder, NO_ORDERS), (NoNumber, NO_NUMBERS + [0, 1, 2, 4, 5]),
+    ]),
+    (texts.read, ("4 2: 01 13",), [
+        (NoText, [thing for thing in NO_STACKS + NO_NUMBERS + NO_TUPLES if thing != "3 2: 01 02 12"]),
+    ]),
+]
 # What takes anything but a stack: no answer of these is an error, once the stack is one.
 LOOKERS = (stacks.is_part, laying.is_order, bars.is_bar, takings.is_taking)
+MODULES = (stacks, laying, orders, bars, counted, kinds, rims, takings, joins, near, rounds, texts)
 # What tells a list of numbers, not of tuples.
-NUMBERS_TOLD = (takings.takable,)
+NUMBERS_TOLD = (takings.takable, near.near, near.leaned)
 
 
 def lists_told():
@@ -124,6 +151,10 @@ def lists_told():
     for stack in (PATH, STRIP, TAILED, SEVENTY):
         yield takings.takable, (stack,)
         yield joins.shared_parts, (stack, stack)
+        yield near.near, (stack, 1)
+        yield near.pieces, (stack,)
+        yield near.leaned, (stack, tuple(range(len(stack[2]))))
+    yield near.pieces, (RING_AND_ONE,)
     yield joins.shared_parts, (PATH, APART)
 
 
@@ -145,6 +176,8 @@ class TestRefusals(unittest.TestCase):
             "rim", "thick", "is_shut", "turned_back", "stays_order", "rim_stack",
             "may_take", "takable", "is_taking", "some_taking", "taking_size", "taken_order",
             "named", "named_back", "cone", "joined", "joined_order", "put_on", "shared_parts",
+            "near", "pieces", "far", "some_way", "is_way", "leaned", "link_order",
+            "is_round", "many_rounds", "round_by", "shown", "read",
         })
 
     def test_what_is_right_is_not_refused(self):
@@ -188,6 +221,19 @@ class TestRefusals(unittest.TestCase):
         self.due(NoRim, rims.rim_stack, (TRIANGLE,))
         self.assertIs(rims.is_shut(NOUGHT), False)
 
+    def test_no_points_come_ahead_of_no_lot_and_behind_no_order(self):
+        for thing in NO_TUPLES + [(1,), ()]:
+            self.due(NoNumber, rounds.is_round, (NOUGHT, thing))
+        for thing in NO_TUPLES + [(1,), ()]:
+            self.due(NoOrder, rounds.round_by, (NOUGHT, thing, 0))
+        for thing in NO_NUMBERS + [0, 1]:
+            self.due(NoNumber, rounds.round_by, (NOUGHT, (0,), thing))
+        self.due(NoNumber, rounds.many_rounds, (NOUGHT,))
+
+    def test_a_desk_refuses_what_is_no_line(self):
+        for thing in NO_STACKS + NO_NUMBERS + NO_TUPLES + ODD:
+            self.due(NoLine, desk.Desk().say, (thing,))
+
     def test_too_great_comes_behind_all_else(self):
         some, order = tuple(range(10)), tuple(range(70))
         for wanted, function, asked in [
@@ -212,6 +258,7 @@ class TestAnswers(unittest.TestCase):
             self.assertIs(stacks.is_stack(thing), False)
             for function in LOOKERS:
                 self.assertIs(type(function(PATH, thing)), bool)
+            self.assertIs(type(near.is_way(PATH, 0, 1, thing)), bool)
 
     def test_nothing_handed_in_is_changed(self):
         for function, good, due in ASKED:
@@ -229,6 +276,12 @@ class TestAnswers(unittest.TestCase):
             stacks.is_stack(thing)
             for function in LOOKERS:
                 function(PATH, thing)
+            near.is_way(PATH, 0, 1, thing)
+            for ask in (texts.read, desk.Desk().say):
+                try:
+                    ask(thing)
+                except LayError:
+                    pass
             self.assertEqual(repr(thing), repr(kept))
 
     def test_the_same_question_has_the_same_answer(self):
@@ -276,7 +329,7 @@ class TestAnswers(unittest.TestCase):
 
     def test_lists_rise(self):
         for function, asked in lists_told():
-            if function != laying.brings:
+            if function not in (laying.brings, near.leaned):
                 told = function(*asked)
                 self.assertEqual(told, sorted(set(told)))
 
@@ -321,13 +374,28 @@ class TestInterface(unittest.TestCase):
                 "joined": ["one", "other"], "joined_order": ["one", "other", "order", "another"],
                 "put_on": ["one", "other"], "shared_parts": ["one", "other"],
             },
+            "near": {
+                "near": ["stack", "number"], "pieces": ["stack"], "far": ["stack", "one", "other"],
+                "some_way": ["stack", "one", "other"], "is_way": ["stack", "one", "other", "thing"],
+                "leaned": ["stack", "order"], "link_order": ["stack", "order", "part"],
+            },
+            "rounds": {
+                "is_round": ["stack", "lot"], "many_rounds": ["stack"], "round_by": ["stack", "order", "number"],
+            },
+            "texts": {"shown": ["stack"], "read": ["text"]},
         }
-        for module in (stacks, laying, orders, bars, counted, kinds, rims, takings, joins):
+        for module in MODULES:
             name = module.__name__.split(".")[1]
             for function, parameters in wanted[name].items():
                 found = getattr(module, function)
                 self.assertEqual(found.__module__, module.__name__)
                 self.assertEqual(list(inspect.signature(found).parameters), parameters)
+
+    def test_the_desk(self):
+        self.assertEqual(desk.Desk.__module__, "layfaces.desk")
+        self.assertEqual(list(inspect.signature(desk.Desk).parameters), [])
+        self.assertIn("say", vars(desk.Desk))
+        self.assertEqual(list(inspect.signature(desk.Desk.say).parameters)[1:], ["line"])
 
 
 if __name__ == "__main__":

@@ -35,7 +35,8 @@ def told_joined(one, other):
 
 def some_names(n):
     rising = tuple(range(n))
-    return [rising, rising[::-1], rising[1:] + rising[:1], rising[::2] + rising[1::2], rising[n // 2:] + rising[:n // 2]]
+    half = n // 2
+    return [rising, rising[::-1], rising[1:] + rising[:1], rising[::2] + rising[1::2], rising[half:] + rising[:half]]
 
 
 def times(one, other):
@@ -309,7 +310,8 @@ class TestRefused(unittest.TestCase):
             lambda thing: named_back(thing, (0, 1, 2, 3)), lambda thing: named_back(thing, 3),
             lambda thing: joined(thing, two), lambda thing: joined(two, thing), lambda thing: joined(thing, SEVENTY),
             lambda thing: joined(SEVENTY, thing), lambda thing: joined(thing, thing),
-            lambda thing: joined_order(thing, two, (0, 1), (0, 1)), lambda thing: joined_order(two, thing, (0, 1), (0, 1)),
+            lambda thing: joined_order(thing, two, (0, 1), (0, 1)),
+            lambda thing: joined_order(two, thing, (0, 1), (0, 1)),
             lambda thing: joined_order(two, thing, None, None), lambda thing: put_on(thing, PATH),
             lambda thing: put_on(PATH, thing), lambda thing: put_on(thing, thing), lambda thing: put_on(thing, two),
             lambda thing: shared_parts(thing, PATH), lambda thing: shared_parts(PATH, thing),

@@ -50,6 +50,11 @@ def called(call):
     return getattr(call.func, "id", None) or getattr(call.func, "attr", None)
 
 
+def picked_from_table(value):
+    """Whether it is an item of a table at module level, by its name in great letters."""
+    return isinstance(value, ast.Subscript) and isinstance(value.value, ast.Name) and value.value.id.isupper()
+
+
 def own_names():
     return {
         node.name for name, tree in trees() for node in ast.walk(tree)
@@ -97,8 +102,34 @@ class TestCode(unittest.TestCase):
                 docstring = isinstance(node, ast.Expr) and isinstance(node.value, ast.Constant)
                 plain = isinstance(node, (ast.ImportFrom, ast.FunctionDef, ast.ClassDef, ast.Assign))
                 self.assertTrue(docstring or plain, (name, node.lineno))
-                if isinstance(node, ast.Assign):
+                if isinstance(node, ast.Assign) and not isinstance(node.value, ast.Dict):
                     self.assertIsInstance(ast.literal_eval(node.value), (int, str, tuple), name)
+
+    def test_tables_hold_functions_defined_above(self):
+        for name, tree in trees():
+            above = []
+            for node in tree.body:
+                if isinstance(node, ast.FunctionDef):
+                    above.append(node.name)
+                if isinstance(node, ast.Assign) and isinstance(node.value, ast.Dict):
+                    self.assertEqual({type(ast.literal_eval(key)) for key in node.value.keys}, {str}, name)
+                    self.assertEqual({each.id for each in node.value.values} - set(above), set(), name)
+
+    def test_tables_are_only_read(self):
+        for name, tree in trees():
+            tables = {
+                node.targets[0].id for node in tree.body
+                if isinstance(node, ast.Assign) and isinstance(node.value, ast.Dict)
+            }
+            allowed = []
+            for node in ast.walk(tree):
+                if isinstance(node, ast.Subscript) and isinstance(node.ctx, ast.Load):
+                    allowed.append(node.value)
+                if isinstance(node, ast.Compare):
+                    allowed.extend(node.comparators)
+            for node in ast.walk(tree):
+                if isinstance(node, ast.Name) and node.id in tables and isinstance(node.ctx, ast.Load):
+                    self.assertIn(node, allowed, (name, node.lineno))
 
     def test_imports_name_the_file_that_defines(self):
         for name, tree in trees():
@@ -130,9 +161,13 @@ class TestCode(unittest.TestCase):
     def test_calls(self):
         own = own_names()
         for name, tree in trees():
+            picked = {
+                node.targets[0].id for node in ast.walk(tree) if isinstance(node, ast.Assign)
+                and isinstance(node.targets[0], ast.Name) and picked_from_table(node.value)
+            }
             for node in ast.walk(tree):
                 if isinstance(node, ast.Call) and isinstance(node.func, ast.Name):
-                    self.assertIn(node.func.id, BUILTINS | own, (name, node.lineno))
+                    self.assertIn(node.func.id, BUILTINS | own | picked, (name, node.lineno))
                 if isinstance(node, ast.Call) and isinstance(node.func, ast.Attribute):
                     self.assertIn(node.func.attr, METHODS | own, (name, node.lineno))
 
